@@ -88,16 +88,17 @@ func (r *reader) next() byte {
 	return r.take(1)[0]
 }
 
-// number reads groups up to the last one.
+// number reads groups up to the last one. What is wrong with a group is met at its own byte, ahead of what is missing behind it.
 func (r *reader) number() uint64 {
 	var n uint64
 	for group := range mostGroups {
 		c := r.next()
-		n |= uint64(c&^moreMark) << (groupBits * group)
+		bits, shift := uint64(c&^moreMark), groupBits*group
+		if bits<<shift>>shift != bits || group > 0 && c == 0 { // beyond 64 bits, or a last group of 0
+			panic(fault(api.ErrForm))
+		}
+		n |= bits << shift
 		if c < moreMark {
-			if group > 0 && c == 0 || group == mostGroups-1 && c > 1 {
-				panic(fault(api.ErrForm))
-			}
 			return n
 		}
 	}

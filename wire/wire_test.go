@@ -413,11 +413,22 @@ func TestNumbersOfTooManyGroups(t *testing.T) {
 			refused(t, "n", times(n, c)+"\x00\x01", api.ErrForm)
 		}
 	}
-	for c := 2; c < 128; c++ { // more than 64 bits in the tenth group
-		refused(t, "n", times(9, "\x80")+string([]byte{byte(c)}), api.ErrForm)
-		refused(t, "n", times(9, "\xff")+string([]byte{byte(c)})+"\x00", api.ErrForm)
+	for c := range 128 { // more than 64 bits in the tenth group, whether or not it tells that more comes, and whatever comes
+		for _, nine := range []string{times(9, "\x80"), times(9, "\xff"), "\xff" + times(8, "\x80")} {
+			last, more := nine+string([]byte{byte(c)}), nine+string([]byte{byte(c + 128)})
+			if c > 1 {
+				refused(t, "n", last, api.ErrForm)
+				refused(t, "n", last+"\x00", api.ErrForm)
+				refused(t, "n", more, api.ErrForm)
+			} else { // of 0 or 1 it doesn't tell by itself: there are too few
+				refused(t, "n", more, api.ErrShort)
+			}
+			refused(t, "n", more+"\x00", api.ErrForm)
+			refused(t, "n", more+"\x01", api.ErrForm)
+			refused(t, "n", more+"\x80", api.ErrForm)
+		}
 	}
-	for n := 1; n <= 10; n++ { // behind a byte that tells that more comes, the tenth one too, there are too few
+	for n := 1; n <= 9; n++ { // behind a byte that tells that more comes there are too few
 		for c := 128; c < 256; c++ {
 			refused(t, "n", times(n, string([]byte{byte(c)})), api.ErrShort)
 			refused(t, "n", times(n-1, "\x80")+string([]byte{byte(c)}), api.ErrShort)
@@ -436,9 +447,23 @@ func TestNumbersOfTooManyGroups(t *testing.T) {
 		refused(t, shape, "\x80\x00", api.ErrForm)
 		refused(t, shape, "\x81\x80\x00", api.ErrForm)
 		refused(t, shape, times(9, "\x80")+"\x02", api.ErrForm)
+		refused(t, shape, times(9, "\x80")+"\x82", api.ErrForm)
+		refused(t, shape, times(10, "\xff"), api.ErrForm)
 		refused(t, shape, times(11, "\x80"), api.ErrForm)
 		refused(t, shape, times(10, "\x80"), api.ErrShort)
+		refused(t, shape, times(9, "\xff")+"\x81", api.ErrShort)
+		refused(t, shape, times(9, "\xff"), api.ErrShort)
 		refused(t, shape, "\xff", api.ErrShort)
+	}
+	for _, shape := range []string{"bn", "tn", "*nn", "bt", "t*t", "*b*b"} { // and those that stand behind others
+		refused(t, shape, "\x00"+times(10, "\xff"), api.ErrForm)
+		refused(t, shape, "\x00"+times(9, "\x80")+"\x82", api.ErrForm)
+		refused(t, shape, "\x00"+times(10, "\x80"), api.ErrShort)
+	}
+	for _, shape := range []string{"*n", "*t"} { // and in lists
+		refused(t, shape, "\x02\x00"+times(10, "\xff"), api.ErrForm)
+		refused(t, shape, "\x02\x00"+times(9, "\x80")+"\x82", api.ErrForm)
+		refused(t, shape, "\x02\x00"+times(10, "\x80"), api.ErrShort)
 	}
 }
 
@@ -506,6 +531,7 @@ func TestTheFirstErrorIsTold(t *testing.T) {
 		{"*l", "\x02\x07\xff", api.ErrForm}, {"*t", "\x03\x00\x02a", api.ErrShort}, {"*t*b", "\x01\xc9\x01\x80\x00", api.ErrLong}, {"*b*b", "\x01\x01\x41", api.ErrLong}, {"*b*b", "\x02\x41", api.ErrShort},
 		{"*n", "\x03\x01\x80\x00\x80", api.ErrForm}, {"*n", "\x02" + times(10, "\x80"), api.ErrShort}, {"*n", "\x02" + times(10, "\x80") + "\x01", api.ErrForm},
 		{times(39, "b") + "n", times(39, "\x80") + "\x80\x00", api.ErrForm},
+		{"nb", times(10, "\xff"), api.ErrForm}, {"nb", times(10, "\x80"), api.ErrShort}, {"tb", "\xc9\x81" + times(7, "\x80") + "\x82", api.ErrForm}, {"*n", "\x02\x80" + times(10, "\xff"), api.ErrForm},
 	} {
 		refused(t, c.shape, c.s, c.want)
 	}
@@ -569,6 +595,8 @@ func toldOne(letter byte, s string) (api.Item, int, api.Errno) {
 func toldNumber(s string) (uint64, int, api.Errno) {
 	n, size := binary.Uvarint([]byte(s[:min(len(s), 11)]))
 	switch {
+	case size == 0 && len(s) == 10 && s[9]&127 > 1:
+		return 0, 0, api.ErrForm
 	case size == 0:
 		return 0, 0, api.ErrShort
 	case size < 0 || size > 1 && s[size-1] == 0:
